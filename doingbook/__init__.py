@@ -1,0 +1,1 @@
+"""Doingbook: what comes of doing, read off from what was only seen."""
