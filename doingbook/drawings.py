@@ -1,6 +1,6 @@
 """Drawings: names, the ties and bows between them, and what is read off from these alone."""
 
-from doingbook.errors import NoBow, NoCount, NoName, NoTie
+from doingbook.errors import NoBow, NoCount, NoName, NoSets, NoTie
 
 MOST_NAMES = 6
 MOST_BOWS = 6
@@ -120,3 +120,16 @@ class Drawing:
         self.need_set(names)
         ties = [tie for tie in self.ties if tie[0] not in names]
         return Drawing(self.count, ties, self.bows)
+
+
+def need_sets(drawing, sets):
+    for names in sets:
+        drawing.need_set(names)
+
+
+def need_apart(sets):
+    named = []
+    for names in sets:
+        named.extend(names)
+    if len(set(named)) != len(named):
+        raise NoSets("two of these sets have a name in common")

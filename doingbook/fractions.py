@@ -40,3 +40,21 @@ def over(a, b):
 def before(a, b):
     # Bottoms are above 0, so multiplying by them keeps the order.
     return a[0] * b[1] < b[0] * a[1]
+
+
+def common_bottom(parts):
+    bottom = 1
+    for part in parts:
+        if bottom % part[1] != 0:
+            bottom = bottom // greatest_divisor(bottom, part[1]) * part[1]
+    return bottom
+
+
+def tops_over(parts, bottom):
+    return [part[0] * (bottom // part[1]) for part in parts]
+
+
+def total(parts):
+    # Summed over one bottom a long row is put into lowest terms once, not at each step.
+    bottom = common_bottom(parts)
+    return fraction(sum(tops_over(parts, bottom)), bottom)
