@@ -209,7 +209,8 @@ class RoadTest(unittest.TestCase):
                 sets = triples(count)
                 for three in sets[::len(sets) // 12 + 1]:
                     for road in roads[::len(roads) // 60 + 1]:
-                        for ways in all_ways_down(drawing, road, three[2])[:4] + [[[name] for name in meetings_of(road)]]:
+                        lists = all_ways_down(drawing, road, three[2])[:4]
+                        for ways in lists + [[[name] for name in meetings_of(road)]]:
                             wanted = self.is_road_by_words(drawing, three, road, ways, roads)
                             answers[wanted] += 1
                             self.assertIs(is_road(drawing, *three, road, ways), wanted)
@@ -220,7 +221,9 @@ class RoadTest(unittest.TestCase):
         lists = [[step] for step in steps] + [[a, b] for a in steps for b in steps if a[2] == b[0] or b[0] == 1]
         for drawing in [drawing for drawing in small_drawings() if drawing.count == 3][5::11]:
             roads = roads_of(drawing)
-            for sets in [((0,), (2,), ()), ((2,), (0, 1), ()), ((0,), (1,), (2,)), ((1,), (2,), (0,)), ((0,), (2,), (1,))]:
+            for sets in [
+                ((0,), (2,), ()), ((2,), (0, 1), ()), ((0,), (1,), (2,)), ((1,), (2,), (0,)), ((0,), (2,), (1,)),
+            ]:
                 for road in lists:
                     for ways in ([], [[1]], [[2]], [[1, 2]]):
                         wanted = self.is_road_by_words(drawing, sets, road, ways, roads)
@@ -240,7 +243,8 @@ class RoadTest(unittest.TestCase):
             for name in list(range(-1, count + 2)) + [10 ** 70]:
                 yield road[:place] + [(name, kind, to)] + road[place + 1:]
                 yield road[:place] + [(start, kind, name)] + road[place + 1:]
-                yield road[:place] + [(start, kind, name), (name, chance.choice(("up", "down", "bow")), to)] + road[place + 1:]
+                two_steps = [(start, kind, name), (name, chance.choice(("up", "down", "bow")), to)]
+                yield road[:place] + two_steps + road[place + 1:]
 
     def bent_ways(self, ways, count):
         yield ways + [[]]

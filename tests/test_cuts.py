@@ -213,13 +213,13 @@ class LetsTest(unittest.TestCase):
                 rows = [cuts[:at] + cuts[at + 1:], cuts[:at] + (cuts[at], cuts[at]) + cuts[at + 1:], cuts[::-1]]
                 rows += [cuts[:at] + ((kind, names),) + cuts[at + 1:] for kind in ("up", "lump", "side", "")]
                 rows += [cuts[:at] + ((word, other),) + cuts[at + 1:] for other in others]
-                rows += [cuts[:at] + ((word, names[::-1]),) + cuts[at + 1:], cuts[:at] + ((word, names + names),) + cuts[at + 1:]]
+                rows += [cuts[:at] + ((word, row),) + cuts[at + 1:] for row in (names[::-1], names + names)]
                 for row in rows:
                     yield paper[:place] + ((lump, row),) + paper[place + 1:]
 
     def test_bent_papers(self):
         answers = {True: 0, False: 0}
-        for drawing, question, paper in asked_papers(12, 2)[::4]:
+        for drawing, question, paper in asked_papers(12, 2)[::9]:
             for bent in self.bent_papers(drawing, paper):
                 wish = lets_by_words(drawing, question, bent)
                 answers[wish] += 1
@@ -227,7 +227,7 @@ class LetsTest(unittest.TestCase):
                     self.assertIs(lets(drawing, question, bent), wish)
                     if not wish:
                         self.assertIs(refusal(formula_of, drawing, question, bent), BadPaper)
-        self.assertGreater(min(answers.values()), 500)
+        self.assertGreater(min(answers.values()), 300)
 
     def test_written_out(self):
         question = ((0,), (2,))

@@ -46,7 +46,8 @@ def worth_by_words(formula, sizes, table, values):
 
 def strewn_formula(chance, count, depth):
     names = all_sets(count)
-    word = chance.choice(("times", "over", "sum", "sum", "seen", "one")) if depth > 1 else chance.choice(("seen", "seen", "one"))
+    words = ("times", "over", "sum", "sum", "seen", "one") if depth > 1 else ("seen", "seen", "one")
+    word = chance.choice(words)
     if word == "one":
         return ONE
     if word == "seen":
@@ -54,6 +55,14 @@ def strewn_formula(chance, count, depth):
     if word == "sum":
         return ("sum", chance.choice(names[1:]), strewn_formula(chance, count, depth - 1))
     return (word, strewn_formula(chance, count, depth - 1), strewn_formula(chance, count, depth - 1))
+
+
+def flat_product(parts):
+    """The product of many formulas, put together two by two so that it isn't deep."""
+    if len(parts) == 1:
+        return parts[0]
+    half = len(parts) // 2
+    return ("times", flat_product(parts[:half]), flat_product(parts[half:]))
 
 
 def strewn_table(chance, sizes, least):
@@ -108,10 +117,9 @@ class OpenNamesTest(unittest.TestCase):
 
     def test_many_parts(self):
         parts = [seen(turn % 5) for turn in range(1000)] + [("sum", (5,), seen(4, 5))] * 300
-        while len(parts) > 1:
-            parts = [("times", *parts[k:k + 2]) if len(parts[k:k + 2]) == 2 else parts[k] for k in range(0, len(parts), 2)]
-        self.assertEqual(open_names(parts[0]), (0, 1, 2, 3, 4))
-        self.assertEqual(open_names(("sum", (0, 2), parts[0])), (1, 3, 4))
+        formula = flat_product(parts)
+        self.assertEqual(open_names(formula), (0, 1, 2, 3, 4))
+        self.assertEqual(open_names(("sum", (0, 2), formula)), (1, 3, 4))
 
 
 class WorthTest(unittest.TestCase):
@@ -204,7 +212,8 @@ class WorthTest(unittest.TestCase):
         nothing = seen(0)
         for formula in (
             by_0, ("over", nothing, nothing), ("times", ONE, by_0), ("times", nothing, by_0), ("times", by_0, nothing),
-            ("over", nothing, by_0), ("over", by_0, ONE), ("sum", (1,), by_0), ("sum", (0,), by_0), ("sum", (0, 1), by_0),
+            ("over", nothing, by_0), ("over", by_0, ONE), ("sum", (1,), by_0), ("sum", (0,), by_0),
+            ("sum", (0, 1), by_0),
             ("over", nothing, ("times", ONE, nothing)), ("sum", (1,), ("times", nothing, ("sum", (0,), by_0))),
             ("times", nothing, ("times", nothing, by_0)), ("over", ONE, ("sum", (1,), nothing)),
         ):
@@ -236,11 +245,10 @@ class WorthTest(unittest.TestCase):
 
     def test_many_parts(self):
         chance = Random(6)
-        parts = [("over", ("seen", chance.choice(all_sets(3))), ("seen", chance.choice(all_sets(3)))) for turn in range(990)]
-        while len(parts) > 1:
-            parts = [("times", *parts[k:k + 2]) if len(parts[k:k + 2]) == 2 else parts[k] for k in range(0, len(parts), 2)]
-        self.assertTrue(self.check(parts[0], self.sizes, self.table, {0: 1, 1: 2, 2: 0}))
-        self.assertTrue(self.check(("sum", (0,), parts[0]), self.sizes, self.table, {1: 2, 2: 0}))
+        sets = [(chance.choice(all_sets(3)), chance.choice(all_sets(3))) for turn in range(990)]
+        formula = flat_product([("over", ("seen", a), ("seen", b)) for a, b in sets])
+        self.assertTrue(self.check(formula, self.sizes, self.table, {0: 1, 1: 2, 2: 0}))
+        self.assertTrue(self.check(("sum", (0,), formula), self.sizes, self.table, {1: 2, 2: 0}))
 
     def test_a_table_of_4096_entries(self):
         sizes = [4] * 6

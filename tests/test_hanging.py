@@ -7,7 +7,9 @@ from doingbook.drawings import Drawing
 from doingbook.errors import NoName, NoRoad, NoSets
 from doingbook.hanging import hanging
 from doingbook.worlds import World
-from tests.support import NO_SETS, all_pairs, meetings_of, open_papers, reckoned_weights, refusal, seen_weights, summed_where
+from tests.support import (
+    NO_SETS, all_pairs, meetings_of, open_papers, reckoned_weights, refusal, seen_weights, summed_where,
+)
 
 
 class HangingTest(unittest.TestCase):
@@ -38,7 +40,7 @@ class HangingTest(unittest.TestCase):
         lengths = set()
         met = {}
         for count in range(2, 7):
-            for drawing, sets, road, several in open_papers(count, 40, 100 + count, 3):
+            for drawing, sets, road, several in open_papers(count, 28, 100 + count, 2):
                 kinds.update(kind for start, kind, to in road)
                 met[len(several[0])] = met.get(len(several[0]), 0) + 1
                 for ways in several[::len(several) // 2 + 1]:
@@ -141,7 +143,9 @@ class RefusedTest(unittest.TestCase):
                 self.assertIs(refusal(hanging, drawing, wrong, (1,), (), road, []), NoName)
                 self.assertIs(refusal(hanging, drawing, (1,), wrong, (1,), road, [[]]), NoName)
                 self.assertIs(refusal(hanging, drawing, (), (), wrong, road, []), NoName)
-            for sets in (((0,), (0, 1), ()), ((), (1,), ()), ((0,), (), (1,)), ((0,), (1,), (1,)), ((0,), (1,), (0, 2))):
+            for sets in [
+                ((0,), (0, 1), ()), ((), (1,), ()), ((0,), (), (1,)), ((0,), (1,), (1,)), ((0,), (1,), (0, 2)),
+            ]:
                 self.assertIs(refusal(hanging, drawing, *sets, road, []), NoSets)
 
 

@@ -56,9 +56,9 @@ class BarsTest(unittest.TestCase):
     def test_some_nests_of_drawings_with_many_names(self):
         failed = {}
         for count in range(4, 7):
-            for turn, drawing in enumerate(some_drawings(count, 21, 500 + count)):
+            for turn, drawing in enumerate(some_drawings(count, 14, 500 + count)):
                 several = questions(count)
-                for question in several[turn % 5::len(several) // 12 + 1]:
+                for question in several[turn % 5::len(several) // 9 + 1]:
                     for outer in all_sets(count)[turn % 2::2]:
                         for inner in [names for names in all_sets(count) if len(set(names) - set(outer)) < 2][::2]:
                             self.check(drawing, question, inner, outer, failed)

@@ -9,8 +9,8 @@ from doingbook.errors import NoName, NoSets, NoShare, NoValue
 from doingbook.setting import set_share, set_share_where, set_world
 from doingbook.worlds import World
 from tests.support import (
-    NO_SETS, all_pairs, all_sets, all_values, pair_of, parts_of_world, reckoned_weights, refusal, shares_of, some_drawings,
-    strewn_sets, summed_where, world_of,
+    NO_SETS, all_pairs, all_sets, all_values, pair_of, parts_of_world, reckoned_weights, refusal, shares_of,
+    some_drawings, strewn_sets, summed_where, world_of,
 )
 
 FAR = 10 ** 70
@@ -81,7 +81,8 @@ class SetShareTest(unittest.TestCase):
 
     def test_written_out(self):
         # Something hidden works on both, so seeing 1 at the first tells of it, and setting it doesn't.
-        tables = [[[(1, 1), (0, 1)], [(0, 1), (1, 1)]], [[(1, 1), (0, 1)], [(0, 1), (1, 1)], [(3, 4), (1, 4)], [(1, 4), (3, 4)]]]
+        copies = [[(1, 1), (0, 1)], [(0, 1), (1, 1)]]
+        tables = [copies, copies + [[(3, 4), (1, 4)], [(1, 4), (3, 4)]]]
         world = World(Drawing(2, [(0, 1)], [(0, 1)]), [2, 2], [[(1, 3), (2, 3)]], tables)
         self.assertEqual(world.share_where((1,), (1,), (0,), (1,)), (3, 4))
         self.assertEqual(set_share(world, (0,), (1,), (1,), (1,)), (7, 12))
@@ -204,7 +205,9 @@ class RefusedTest(unittest.TestCase):
         for setnames, names in [((0,), (0,)), ((0, 1), (1, 2)), ((0, 1, 2), (0, 1, 2))]:
             zeros = ((0,) * len(setnames), (0,) * len(names))
             self.assertIs(refusal(set_share, self.world, setnames, zeros[0], names, zeros[1]), NoSets)
-        for sets in [((0,), (0,), ()), ((0,), (), (0,)), ((), (1,), (1,)), ((0, 1), (2,), (1,)), ((0,), (1,), (0, 1, 2))]:
+        for sets in [
+            ((0,), (0,), ()), ((0,), (), (0,)), ((), (1,), (1,)), ((0, 1), (2,), (1,)), ((0,), (1,), (0, 1, 2)),
+        ]:
             handed = [part for names in sets for part in (names, (0,) * len(names))]
             self.assertIs(refusal(set_share_where, self.world, *handed), NoSets)
 

@@ -148,8 +148,8 @@ class RefusedWorldTest(unittest.TestCase):
         self.check(hidden=[[], good[1]])
         self.check(hidden=[good[1], good[0]])
         for wrong in (
-            [HALF], [HALF, HALF, HALF], [(3, 2), (-1, 2)], [(-1, 1), (2, 1)], [(0, 1), (0, 1)], [HALF, (1, 3)], [HALF, (2, 3)],
-            [(1, 1), (0, 1), (0, 1)],
+            [HALF], [HALF, HALF, HALF], [(3, 2), (-1, 2)], [(-1, 1), (2, 1)], [(0, 1), (0, 1)], [HALF, (1, 3)],
+            [HALF, (2, 3)], [(1, 1), (0, 1), (0, 1)],
         ):
             self.check(hidden=[wrong, good[1]])
 
@@ -187,8 +187,9 @@ class RefusedWorldTest(unittest.TestCase):
         drawing = Drawing(6, [], bows)
         cases = [
             ([2] * 6, [4, 4, 4, 4, 4, 3], None), ([2] * 6, [4] * 6, NoWorld), ([4] * 6, [4, 4, 3, 1, 1, 1], None),
-            ([4] * 6, [4, 4, 4, 1, 1, 1], NoWorld), ([3] * 6, [4, 4, 4, 4, 1, 1], None), ([3] * 6, [3, 3, 3, 3, 3, 1], None),
-            ([3] * 6, [3, 3, 4, 4, 2, 1], NoWorld), ([4, 4, 4, 4, 4, 3], [4, 4, 4, 1, 1, 1], None),
+            ([4] * 6, [4, 4, 4, 1, 1, 1], NoWorld), ([3] * 6, [4, 4, 4, 4, 1, 1], None),
+            ([3] * 6, [3, 3, 3, 3, 3, 1], None), ([3] * 6, [3, 3, 4, 4, 2, 1], NoWorld),
+            ([4, 4, 4, 4, 4, 3], [4, 4, 4, 1, 1, 1], None),
         ]
         for sizes, counts, wanted in cases:
             hidden, tables = parts_of_world(drawing, sizes, counts, 1)
