@@ -1,6 +1,6 @@
 """Questions, the cuts that lead to their wanted lumps, and the formulas of papers made of such cuts."""
 
-from doingbook.drawings import is_set, need_apart, need_sets
+from doingbook.drawings import is_set, names_up_to, need_apart, need_sets, without
 from doingbook.errors import BadPaper, NoSets
 
 
@@ -9,14 +9,6 @@ def need_question(drawing, question):
     need_apart([question[0], question[1]])
     if len(question[1]) == 0:
         raise NoSets("a question asks for at least one name")
-
-
-def names_up_to(count):
-    return tuple(range(count))
-
-
-def without(names, others):
-    return tuple([name for name in names if name not in others])
 
 
 def wanted_names(drawing, question):
@@ -59,8 +51,12 @@ def is_cut(drawing, stands, cut):
     return False
 
 
+def lump_around(drawing, names, lump):
+    return [whole for whole in drawing.lumps(names) if lump[0] in whole][0]
+
+
 def first_lump(drawing, lump):
-    return [whole for whole in drawing.lumps(names_up_to(drawing.count)) if lump[0] in whole][0]
+    return lump_around(drawing, names_up_to(drawing.count), lump)
 
 
 def lead_to(drawing, lump, cuts):

@@ -23,6 +23,18 @@ def is_set(count, names):
     return True
 
 
+def names_up_to(count):
+    return tuple(range(count))
+
+
+def without(names, others):
+    return tuple([name for name in names if name not in others])
+
+
+def together(names, others):
+    return tuple(sorted(set(names + others)))
+
+
 class Drawing:
     def __init__(self, count, ties, bows):
         if count < 1 or count > MOST_NAMES:

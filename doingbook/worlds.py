@@ -62,9 +62,9 @@ def joint(names, values, others, theirs):
     return told
 
 
-def hidden_weights(hidden):
+def crossed(rows):
     told = [(1, 1)]
-    for shares in hidden:
+    for shares in rows:
         longer = []
         for weight in told:
             longer.extend([times(weight, share) for share in shares])
@@ -89,7 +89,7 @@ def picked_entries(world, name, values):
 
 
 def weights_without(world, setnames):
-    shares = hidden_weights(world.hidden)
+    shares = crossed(world.hidden)
     hidden_bottom = common_bottom(shares)
     hidden_tops = tops_over(shares, hidden_bottom)
     names = [name for name in range(world.drawing.count) if name not in setnames]

@@ -101,7 +101,7 @@ def faults_of_statements(node):
         isinstance(node, (ast.For, ast.While)) and node.orelse
         or isinstance(node, ast.Try) and node.finalbody
         or isinstance(node, ast.ExceptHandler) and node.type is None
-        or isinstance(node, ast.Assign) and len(node.targets) != 1
+        or isinstance(node, ast.Assign) and (len(node.targets) != 1 or isinstance(node.targets[0], ast.Tuple))
         or isinstance(node, ast.Expr) and not isinstance(node.value, ast.Call)
     )
     return ["L6"] if wrong else []
@@ -195,6 +195,7 @@ def faults_of_top(tree, package):
     """L2, L3, L15, L16 as far as one file tells them."""
     faults = []
     bound = []
+    functions = []
     for place, row in enumerate(tree.body):
         if isinstance(row, ast.Expr):
             if place != 0 or not isinstance(row.value, ast.Constant):
@@ -206,8 +207,9 @@ def faults_of_top(tree, package):
             bound.extend(n.name for n in row.names)
         elif isinstance(row, (ast.FunctionDef, ast.ClassDef)):
             bound.append(row.name)
-        elif isinstance(row, ast.Assign) and isinstance(row.targets[0], ast.Name) and is_plain_value(row.value, bound):
-            bound.append(row.targets[0].id)
+            functions.extend([row.name] if isinstance(row, ast.FunctionDef) else [])
+        elif isinstance(row, ast.Assign) and is_plain_value(row.value, functions):
+            bound.extend(name for node in ast.walk(row) for name in bound_names(node))
         else:
             faults.append(("L3", row.lineno))
     if len(set(bound)) != len(bound):

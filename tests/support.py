@@ -264,3 +264,29 @@ def lumps_by_words(drawing, names):
         if u in names and v in names and len(both) == 2:
             lumps = [lump for lump in lumps if lump not in both] + [both[0] | both[1]]
     return sorted(tuple(sorted(lump)) for lump in lumps)
+
+
+def union(*sets):
+    return tuple(sorted(set().union(*sets)))
+
+
+def less(names, others):
+    return tuple(sorted(set(names) - set(others)))
+
+
+def cut_by_words(shape, into, out):
+    """The drawing cut in by some names and cut out by others, by point 8."""
+    count, ties, bows = shape
+    kept = [(u, v) for u, v in ties if v not in into and u not in out]
+    return Drawing(count, kept, [bow for bow in bows if not set(bow) & set(into)])
+
+
+def statements(count):
+    """Every statement of point 32."""
+    return [sets for sets in strewn_sets(count, 3) if sets[0]]
+
+
+def is_barred_by_words(drawing, ones, others, given):
+    """By points 10 and 12: no road from one of the ones to one of the others is open."""
+    roads = [road for road in roads_of(drawing) if road[0][0] in ones and road[-1][2] in others]
+    return not any(is_open(drawing, road, given) for road in roads)

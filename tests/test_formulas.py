@@ -8,71 +8,14 @@ from random import Random
 from doingbook.drawings import Drawing
 from doingbook.errors import NoShare
 from doingbook.formulas import open_names, worth
+from tests.forms import ONE, as_fractions, flat_product, open_by_words, seen, strewn_formula, worth_by_words
 from tests.support import all_sets, all_values, pair_of, refusal, some_drawings, summed_where, world_of
-
-ONE = ("one",)
-
-
-def seen(*names):
-    return ("seen", names)
-
-
-def open_by_words(formula):
-    word = formula[0]
-    if word == "one":
-        return set()
-    if word == "seen":
-        return set(formula[1])
-    if word == "sum":
-        return open_by_words(formula[2]) - set(formula[1])
-    return open_by_words(formula[1]) | open_by_words(formula[2])
-
-
-def worth_by_words(formula, sizes, table, values):
-    """By point 23; a quotient by 0 raises ZeroDivisionError."""
-    word = formula[0]
-    if word == "one":
-        return Fraction(1)
-    if word == "seen":
-        return summed_where(table, {name: values[name] for name in formula[1]})
-    if word == "sum":
-        ways = all_values([sizes[name] for name in formula[1]])
-        inner = [worth_by_words(formula[2], sizes, table, {**values, **dict(zip(formula[1], way))}) for way in ways]
-        return sum(inner, start=Fraction(0))
-    a = worth_by_words(formula[1], sizes, table, values)
-    b = worth_by_words(formula[2], sizes, table, values)
-    return a * b if word == "times" else a / b
-
-
-def strewn_formula(chance, count, depth):
-    names = all_sets(count)
-    words = ("times", "over", "sum", "sum", "seen", "one") if depth > 1 else ("seen", "seen", "one")
-    word = chance.choice(words)
-    if word == "one":
-        return ONE
-    if word == "seen":
-        return ("seen", chance.choice(names))
-    if word == "sum":
-        return ("sum", chance.choice(names[1:]), strewn_formula(chance, count, depth - 1))
-    return (word, strewn_formula(chance, count, depth - 1), strewn_formula(chance, count, depth - 1))
-
-
-def flat_product(parts):
-    """The product of many formulas, put together two by two so that it isn't deep."""
-    if len(parts) == 1:
-        return parts[0]
-    half = len(parts) // 2
-    return ("times", flat_product(parts[:half]), flat_product(parts[half:]))
 
 
 def strewn_table(chance, sizes, least):
     """A table that needn't come of a world: its entries needn't come to 1."""
     tops = range(1, 8) if least else (0, 0, 0, 1, 5)
     return {values: pair_of(Fraction(chance.choice(tops), chance.randint(1, 9))) for values in all_values(sizes)}
-
-
-def as_fractions(table):
-    return {values: Fraction(*entry) for values, entry in table.items()}
 
 
 class OpenNamesTest(unittest.TestCase):

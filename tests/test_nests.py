@@ -5,32 +5,16 @@ import unittest
 from doingbook.drawings import Drawing
 from doingbook.errors import NoName, NoSets
 from doingbook.nests import bars
-from tests.support import (
-    NO_SETS, above, all_sets, lumps_by_words, questions, refusal, small_drawings, some_drawings, wanted_by_words,
-)
+from tests.papers import nest_conditions
+from tests.support import NO_SETS, all_sets, questions, refusal, small_drawings, some_drawings
 
 # The first name works on the second one, and something hidden lies under both.
 BOW = Drawing(2, [(0, 1)], [(0, 1)])
 
 
-def conditions(drawing, question, inner, outer):
-    """Each condition of point 29, by its words."""
-    within = tuple(tie for tie in drawing.ties if set(tie) <= set(outer))
-    return {
-        "inner isn't empty": inner != (),
-        "all its names are wanted": set(inner) <= set(wanted_by_words(drawing, question)),
-        "inner is one lump": lumps_by_words(drawing, inner) == [inner],
-        "outer is one lump": lumps_by_words(drawing, outer) == [outer],
-        "inner's names are among outer's": set(inner) <= set(outer),
-        "outer has others besides": bool(set(outer) - set(inner)),
-        "outer's names are ancestors of inner": set(outer) <= set(above(within, inner)),
-        "outer has a name that is set": bool(set(outer) & set(question[0])),
-    }
-
-
 class BarsTest(unittest.TestCase):
     def check(self, drawing, question, inner, outer, failed):
-        told = conditions(drawing, question, inner, outer)
+        told = nest_conditions(drawing, question, inner, outer)
         wrong = [words for words, holds in told.items() if not holds]
         failed[tuple(wrong)] = failed.get(tuple(wrong), 0) + 1
         with self.subTest(shape=drawing.shape(), question=question, inner=inner, outer=outer):
@@ -42,7 +26,7 @@ class BarsTest(unittest.TestCase):
         alone = {wrong[0] for wrong in failed if len(wrong) == 1}
         # The empty set is no lump of itself; and what is set isn't wanted, so outer has it besides inner.
         never_alone = {"inner isn't empty", "outer has others besides"}
-        self.assertEqual(alone, set(conditions(BOW, ((), (1,)), (), ())) - never_alone)
+        self.assertEqual(alone, set(nest_conditions(BOW, ((), (1,)), (), ())) - never_alone)
 
     def test_every_nest_of_drawings_with_few_names(self):
         failed = {}
@@ -89,7 +73,7 @@ class BarsTest(unittest.TestCase):
             (question, (2, 3), (0, 1, 2), "inner's names are among outer's"),
             (question, (4,), (0, 4), "all its names are wanted"),
         ]:
-            told = conditions(drawing, asked, inner, outer)
+            told = nest_conditions(drawing, asked, inner, outer)
             self.assertEqual([condition for condition, holds in told.items() if not holds], [words])
             self.assertIs(bars(drawing, asked, inner, outer), False)
 
