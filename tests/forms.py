@@ -1,10 +1,12 @@
-"""Reckonings of formulas by the words of points 22 and 23, and formulas to ask about, for several tests."""
+"""Reckonings of formulas and texts by the words of points 22, 23, 45 and 46, and formulas to ask about, for several
+tests."""
 
 from fractions import Fraction
 
 from tests.support import all_sets, all_values, summed_where
 
 ONE = ("one",)
+LETTERS = "abcdef"
 
 
 def seen(*names):
@@ -61,3 +63,28 @@ def flat_product(parts):
 
 def as_fractions(table):
     return {values: Fraction(*entry) for values, entry in table.items()}
+
+
+def drawing_text_by_words(drawing):
+    """By point 45."""
+    told = f"{drawing.count}:"
+    for u, v in drawing.ties:
+        told += f" {LETTERS[u]}>{LETTERS[v]}"
+    for u, v in drawing.bows:
+        told += f" {LETTERS[u]}~{LETTERS[v]}"
+    return told
+
+
+def formula_text_by_words(formula):
+    """By point 46."""
+    match formula:
+        case ("one",):
+            return "1"
+        case ("seen", names):
+            return "P(" + " ".join(LETTERS[name] for name in names) + ")"
+        case ("times", a, b):
+            return f"({formula_text_by_words(a)} * {formula_text_by_words(b)})"
+        case ("over", a, b):
+            return f"({formula_text_by_words(a)} / {formula_text_by_words(b)})"
+        case ("sum", names, a):
+            return "sum(" + " ".join(LETTERS[name] for name in names) + ": " + formula_text_by_words(a) + ")"

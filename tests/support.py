@@ -163,25 +163,30 @@ def seen_weights(world):
     return {values: Fraction(*entry) for values, entry in world.seen().items()}
 
 
-def roads_of(drawing):
-    """Every road of a drawing, by point 9."""
+@lru_cache(maxsize=64)
+def roads_of_shape(count, ties, bows):
     kinds = {}
-    for u, v in drawing.ties:
+    for u, v in ties:
         kinds.setdefault((u, v), []).append("down")
         kinds.setdefault((v, u), []).append("up")
-    for u, v in drawing.bows:
+    for u, v in bows:
         kinds.setdefault((u, v), []).append("bow")
         kinds.setdefault((v, u), []).append("bow")
     told = []
-    stack = [([], [name]) for name in range(drawing.count)]
+    stack = [([], [name]) for name in range(count)]
     while stack:
         steps, names = stack.pop()
-        for other in range(drawing.count):
+        for other in range(count):
             for kind in kinds.get((names[-1], other), []):
                 if other not in names:
                     stack.append((steps + [(names[-1], kind, other)], names + [other]))
                     told.append(steps + [(names[-1], kind, other)])
     return told
+
+
+def roads_of(drawing):
+    """Every road of a drawing, by point 9."""
+    return roads_of_shape(*drawing.shape())
 
 
 def meetings_of(road):
