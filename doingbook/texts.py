@@ -63,10 +63,11 @@ class Reader:
         return self.signs[self.place:self.place + 1]
 
     def step(self, choices):
-        if self.sign() not in choices:
+        sign = self.sign()
+        if sign not in choices:
             raise NoText(self.place)
-        self.place += 1
-        return self.signs[self.place - 1]
+        self.place = self.place + 1
+        return sign
 
     def steps(self, signs):
         for sign in signs:

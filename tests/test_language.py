@@ -10,28 +10,30 @@ from tests.language import faults_of, methods_of, values_of
 PACKAGE = pathlib.Path(__file__).resolve().parent.parent / "doingbook"
 BASE = "doingbook"
 
-SENT_BACK = {
-    "L2": "from fractions import Fraction\n",
-    "L3": "rows = len('a')\n",
-    "L4": "def f(*a):\n    return a\n",
-    "L5": "class A:\n    x = 1\n",
-    "L6": "def f(a):\n    b = c = a\n    return b\n",
-    "L6 or L7": "def f(a):\n    return {n: True for n in a}\n",
-    "L7": "def f():\n    return 1.5\n",
-    "L8": "def f(a):\n    return hash(a)\n",
-    "L10": "def f(a):\n" + "    a = a + 1\n" * 40,
-    "L12": "def f(a):\n    return [1 for _ in a]\n",
-    "L14": "# \u00e4\n",
-    "L15": "def f(id):\n    return id\n",
-    "L17": "# the type\n",
-    "L20": "def f(a, b):\n    return a is b\n",
-    "L23": "def f(a):\n    b = range(a)\n    return b\n",
-    "L24": "def f(a):\n    b = set(a)\n    return b\n",
-    "L25": "def f(a):\n    a.sort()\n",
-    "L26": "class A:\n    def __init__(self):\n        self.args = 1\n",
-    "L27": "def f(n):\n    return 2 ** n\n",
-    "L28": "class A:\n    def __init__(self):\n        return None\n",
-}
+SENT_BACK = [
+    ("L2", "from fractions import Fraction\n"),
+    ("L3", "rows = len('a')\n"),
+    ("L3", "A = 1\nB = (A, 2)\n"),
+    ("L4", "def f(*a):\n    return a\n"),
+    ("L5", "class A:\n    x = 1\n"),
+    ("L6", "def f(a):\n    b = c = a\n    return b\n"),
+    ("L6", "def f(a):\n    b, c = a\n    return b + c\n"),
+    ("L6 or L7", "def f(a):\n    return {n: True for n in a}\n"),
+    ("L7", "def f():\n    return 1.5\n"),
+    ("L8", "def f(a):\n    return hash(a)\n"),
+    ("L10", "def f(a):\n" + "    a = a + 1\n" * 40),
+    ("L12", "def f(a):\n    return [1 for _ in a]\n"),
+    ("L14", "# \u00e4\n"),
+    ("L15", "def f(id):\n    return id\n"),
+    ("L17", "# the type\n"),
+    ("L20", "def f(a, b):\n    return a is b\n"),
+    ("L23", "def f(a):\n    b = range(a)\n    return b\n"),
+    ("L24", "def f(a):\n    b = set(a)\n    return b\n"),
+    ("L25", "def f(a):\n    a.sort()\n"),
+    ("L26", "class A:\n    def __init__(self):\n        self.args = 1\n"),
+    ("L27", "def f(n):\n    return 2 ** n\n"),
+    ("L28", "class A:\n    def __init__(self):\n        return None\n"),
+]
 
 
 def package_files():
@@ -84,8 +86,8 @@ class LanguageTest(unittest.TestCase):
         self.assertEqual(methods & values, set())
 
     def test_what_lies_outside_is_seen(self):
-        for rule, text in SENT_BACK.items():
-            with self.subTest(rule):
+        for rule, text in SENT_BACK:
+            with self.subTest(rule, text=text):
                 self.assertIn(rule, [found for found, line in faults_of(text, BASE, [])])
 
 
